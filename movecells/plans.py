@@ -1,10 +1,11 @@
 """Plans: the rounds of cuts that come again and again."""
 
-from movecells.checks import check_fineness, is_count_below, is_int
+from movecells.checks import check_fineness, is_count_below, is_int, is_list, is_tuple_of
 from movecells.errors import (
     InvalidNumber,
     InvalidPair,
     InvalidPhase,
+    InvalidPlan,
     InvalidRounds,
     InvalidSign,
     NotBalanced,
@@ -80,10 +81,7 @@ class Plan:
     def counts(self, f):
         """Into how many columns and rows a map is cut at a fineness."""
         check_fineness(f)
-        turns, rest = divmod(f, len(self._rounds))
-        columns, rows = _multiplied(self._parts[:rest])
-        many = _power(self._growth, turns)
-        return columns * many, rows * many
+        return counts_at(self, f)
 
     @property
     def growth(self):
@@ -102,9 +100,23 @@ class Plan:
         return f"Plan({', '.join([repr(cuts) for cuts in self._rounds])})"
 
 
+def check_plan(plan):
+    """Raise the error of a value that is no plan."""
+    if not isinstance(plan, Plan):
+        raise InvalidPlan(plan)
+
+
 def is_axis(value):
     """Whether a value is one of the two axes."""
     return isinstance(value, str) and value in AXES
+
+
+def counts_at(plan, f):
+    """The columns and the rows of a fineness, which may be above the greatest one that can be passed."""
+    turns, rest = divmod(f, len(plan))
+    columns, rows = _multiplied([plan.parts(phase) for phase in range(rest)])
+    many = _power(plan.growth, turns)
+    return columns * many, rows * many
 
 
 def check_phase(plan, phase):
@@ -121,7 +133,7 @@ def check_sign(plan, phase, sign):
 
 def check_pair(pair, parts):
     """Raise the error of a pair that is not within as many columns and rows."""
-    if not isinstance(pair, tuple) or len(pair) != 2:
+    if not is_tuple_of(pair, 2):
         raise InvalidPair(pair)
     if not all([is_count_below(number, many) for number, many in zip(pair, parts)]):
         raise InvalidPair(pair)
@@ -134,14 +146,14 @@ def _is_parts(value):
 
 def _is_cut(value):
     """Whether a value is a cut."""
-    if not isinstance(value, tuple) or len(value) != 2:
+    if not is_tuple_of(value, 2):
         return False
     return is_axis(value[0]) and _is_parts(value[1])
 
 
 def _is_cuts(value):
     """Whether a value is a round: a list of cuts."""
-    if not isinstance(value, (list, tuple)) or not 1 <= len(value) <= Plan.MOST_CUTS:
+    if not is_list(value) or not 1 <= len(value) <= Plan.MOST_CUTS:
         return False
     return all([_is_cut(cut) for cut in value])
 

@@ -117,6 +117,38 @@ def as_ratio(value):
     return Ratio(value)
 
 
+def is_number(value):
+    """Whether a value is a NUMBER."""
+    return is_int(value) or isinstance(value, Ratio)
+
+
+def is_above_0(value):
+    """Whether a value is a NUMBER greater than 0."""
+    return is_number(value) and as_ratio(value).sign == 1
+
+
+def is_on(value, length):
+    """Whether a value is a NUMBER from 0 to below a length."""
+    if not is_number(value):
+        return False
+    number = as_ratio(value)
+    return number.sign != -1 and number.is_below(length)
+
+
+def smaller(one, other):
+    """The smaller one of two Ratios."""
+    if other.is_below(one):
+        return other
+    return one
+
+
+def greater(one, other):
+    """The greater one of two Ratios."""
+    if one.is_below(other):
+        return other
+    return one
+
+
 def _bottom_of(slash, text):
     """The bottom that the text behind a slash tells, 1 without a slash."""
     if slash == "":

@@ -141,6 +141,62 @@ class TestForm(unittest.TestCase):
                     self.assertIn(node, tree.body, name)
                     self.assertEqual(node.decorator_list, [], name)
 
+    def test_names_of_methods_attributes_and_generators(self):
+        methods, properties, attributes, plain, generators = [], set(), set(), [], []
+        for _, tree in trees():
+            inner = {part: node for node in ast.walk(tree) if isinstance(node, ast.ClassDef) for part in node.body}
+            for node in ast.walk(tree):
+                if isinstance(node, ast.FunctionDef):
+                    marks = [ast.unparse(mark) for mark in node.decorator_list]
+                    if any(isinstance(part, (ast.Yield, ast.YieldFrom)) for part in ast.walk(node)):
+                        generators.append(node.name)
+                    if "property" in marks:
+                        properties.add(node.name)
+                    elif node in inner and not marks:
+                        methods.append(node.name)
+                    elif node not in inner:
+                        plain.append(node.name)
+                if isinstance(node, ast.Attribute) and isinstance(node.ctx, ast.Store):
+                    attributes.add(node.attr)
+        self.assertFalse(properties & set(methods))
+        self.assertFalse(properties & attributes)
+        self.assertFalse(attributes & set(methods))
+        for kind in (str, int, list, dict, set, bytes, tuple):
+            self.assertFalse([name for name in properties | attributes if hasattr(kind, name) and name not in ("count", "index")])
+        for name in generators:
+            self.assertEqual((plain + methods).count(name), 1, name)
+
+    def test_classes_that_are_indexed_are_not_iterated_over(self):
+        for name, tree in trees():
+            for node in ast.walk(tree):
+                if isinstance(node, ast.ClassDef):
+                    there = [part.name for part in node.body if isinstance(part, ast.FunctionDef)]
+                    if "__getitem__" in there:
+                        self.assertIn("__iter__", there, (name, node.name))
+
+    def test_methods_that_only_tell(self):
+        """Those that compare, measure or show assign nothing, and end with a return."""
+        for name, tree in trees():
+            for node in ast.walk(tree):
+                if isinstance(node, ast.FunctionDef) and node.name in ("__eq__", "__len__", "__repr__", "__str__"):
+                    self.assertIsInstance(node.body[-1], ast.Return, name)
+                    for part in ast.walk(node):
+                        self.assertNotIsInstance(part, (ast.Assign, ast.AugAssign, ast.NamedExpr, ast.Delete), name)
+
+    def test_calls_and_expressions(self):
+        """Own classes compare and reckon: sums and the like take lists, and nothing is added in place."""
+        for name, tree in trees():
+            for node in ast.walk(tree):
+                self.assertNotIsInstance(node, (ast.AugAssign, ast.GeneratorExp), name)
+                if isinstance(node, ast.Compare):
+                    for sign, other in zip(node.ops, node.comparators):
+                        if isinstance(sign, (ast.Is, ast.IsNot)):
+                            self.assertIn(ast.unparse(other), ("None", "True", "False"), name)
+                if isinstance(node, ast.Call) and isinstance(node.func, ast.Attribute):
+                    self.assertNotIn(node.func.attr, ("sort", "keys", "format"), name)
+                if isinstance(node, ast.Constant) and isinstance(node.value, str):
+                    self.assertNotIn(chr(37), node.value, name)
+
     def test_words_that_are_barred(self):
         for path in files():
             tree = ast.parse(path.read_text())
@@ -148,6 +204,7 @@ class TestForm(unittest.TestCase):
                 if isinstance(node, (ast.Module, ast.ClassDef, ast.FunctionDef)) and ast.get_docstring(node):
                     node.body[0] = ast.Pass()
             self.assertIsNone(BARRED.search(ast.unparse(tree)), path.name)
+            self.assertIsNone(re.search(r"\(type\)|Meta|metaclass=", path.read_text()), path.name)
 
 
 if __name__ == "__main__":
