@@ -30,7 +30,7 @@ def are_near(area, kind, place, other, d):
     """Whether two places are near each other for a distance."""
     _check_two(area, kind, place, other)
     check_distance(d)
-    return not as_ratio(d).is_below(distance_of(area, kind, place, other))
+    return is_near(area, kind, place, other, d)
 
 
 def way(area, kind, place, name):
@@ -67,6 +67,11 @@ def distance_of(area, kind, place, other):
     """The distance of what are known to be places."""
     gaps = [_gap_on(area, axis, one, two) for axis, one, two in zip(AXES, place, other)]
     return joined(kind, gaps)
+
+
+def is_near(area, kind, place, other, d):
+    """Whether two places are near each other, for values that are known to be right."""
+    return not as_ratio(d).is_below(distance_of(area, kind, place, other))
 
 
 def way_to(area, kind, place, name):

@@ -19,6 +19,9 @@ class Gauge:
         self._area = area
         self._reaches = (as_ratio(east), as_ratio(north))
         self._kind = KINDS[KINDS.index(kind)]
+        # Kept because graphs ask for the same answers again and again.
+        self._taken = None
+        self._reached = {}
 
     @property
     def area(self):
@@ -53,14 +56,17 @@ class Gauge:
 
     def taken(self):
         """The phases whose finenesses are taken."""
-        phases = range(len(self._area.plan))
-        return [phase for phase in phases if _is_less_behind(self, first_fineness(self, phase))]
+        if self._taken is None:
+            phases = range(len(self._area.plan))
+            self._taken = [phase for phase in phases if _is_less_behind(self, first_fineness(self, phase))]
+        return list(self._taken)
 
     def reached(self, phase, sign):
         """The moves to cells that can be near a place with a next sign."""
         check_sign(self._area.plan, phase, sign)
-        greatest = greatest_at(self, first_fineness(self, phase))
-        return [move for move in MOVES if _least(self, phase, sign, move).is_below(greatest)]
+        if (phase, sign) not in self._reached:
+            self._reached[(phase, sign)] = _reached_with(self, phase, sign)
+        return list(self._reached[(phase, sign)])
 
     def with_reaches(self, east, north):
         """A gauge with other reaches."""
@@ -137,6 +143,12 @@ def _is_reach(value):
 def _is_less_behind(gauge, f):
     """Whether the greatest distance becomes less behind a fineness from 1 on."""
     return greatest_at(gauge, f + 1).is_below(greatest_at(gauge, f))
+
+
+def _reached_with(gauge, phase, sign):
+    """The moves whose least gaps together are less than the greatest distance of the phase."""
+    greatest = greatest_at(gauge, first_fineness(gauge, phase))
+    return [move for move in MOVES if _least(gauge, phase, sign, move).is_below(greatest)]
 
 
 def _least(gauge, phase, sign, move):

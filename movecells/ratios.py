@@ -122,6 +122,14 @@ def is_number(value):
     return is_int(value) or isinstance(value, Ratio)
 
 
+def number_of(text):
+    """The number whose text this is, or None."""
+    try:
+        return Ratio.read(text)
+    except InvalidText:
+        return None
+
+
 def is_above_0(value):
     """Whether a value is a NUMBER greater than 0."""
     return is_number(value) and as_ratio(value).sign == 1

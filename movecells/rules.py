@@ -1,13 +1,12 @@
 """Rules of search: which names are asked for a place and a distance."""
 
 from movecells.checks import is_count_below, is_list, is_tuple_of, is_word
-from movecells.errors import InvalidLooks, InvalidMoves, InvalidPlaces, OtherPlan
-from movecells.gaps import check_distance, distance_of, reaches_cell
+from movecells.errors import InvalidLooks, InvalidMoves, InvalidPlaces, InvalidRule, OtherPlan
+from movecells.gaps import check_distance, is_near, reaches_cell
 from movecells.gauges import check_gauge, fineness_of
 from movecells.names import name_with, pair_of
 from movecells.places import check_place, is_place, pair_at, sign_behind
 from movecells.plans import AXES, check_sign
-from movecells.ratios import as_ratio
 from movecells.steps import MOVES, check_edges, is_move, made_by
 from movecells.tables import Table, check_table
 
@@ -36,8 +35,7 @@ class Rule:
         """The rule that asks the own cell and all its neighbours."""
         check_gauge(gauge)
         area = gauge.area
-        edges = ["seam" if area.is_closed(axis) else "stop" for axis in AXES]
-        return cls(gauge, Table.right(area.plan), MOVES, edges=tuple(edges))
+        return cls(gauge, Table.right(area.plan), MOVES, edges=right_edges(area))
 
     @property
     def gauge(self):
@@ -152,6 +150,25 @@ class Rule:
             raise InvalidPlaces(places)
 
 
+def check_rule(rule):
+    """Raise the error of a value that is no rule."""
+    if not isinstance(rule, Rule):
+        raise InvalidRule(rule)
+
+
+def right_edges(area):
+    """The edges with which searches go round the closed axes of a map alone."""
+    return tuple(["seam" if area.is_closed(axis) else "stop" for axis in AXES])
+
+
+def lists_at(rule, phase):
+    """The lists of a phase, as tuples, each with its next signs."""
+    found = {}
+    for sign in range(rule.table.plan.signs(phase)):
+        found.setdefault(tuple(rule.moves(phase, sign)), []).append(sign)
+    return found
+
+
 def _check_plans(gauge, table):
     """Raise the error of a table for another plan than that of the gauge's map."""
     if gauge.area.plan != table.plan:
@@ -232,6 +249,4 @@ def _asked_pairs(rule, place, f):
 def _is_missed(rule, pairs, place, other, d, f):
     """Whether the other place is near, but in no cell with one of the number pairs."""
     area = rule.gauge.area
-    if as_ratio(d).is_below(distance_of(area, rule.gauge.kind, place, other)):
-        return False
-    return pair_at(area, other, f) not in pairs
+    return is_near(area, rule.gauge.kind, place, other, d) and pair_at(area, other, f) not in pairs

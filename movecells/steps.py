@@ -80,10 +80,15 @@ def check_move(move):
 
 def check_edges(edges):
     """Raise the error of a value that is not the tuple of two words for edges."""
-    if not is_tuple_of(edges, 2):
+    if not are_edges(edges):
         raise InvalidEdges(edges)
-    if not all([isinstance(word, str) and word in EDGE_WORDS for word in edges]):
-        raise InvalidEdges(edges)
+
+
+def are_edges(value):
+    """Whether a value is a tuple of two words for edges."""
+    if not is_tuple_of(value, 2):
+        return False
+    return all([isinstance(word, str) and word in EDGE_WORDS for word in value])
 
 
 def stepped(table, name, direction):
@@ -103,13 +108,13 @@ def made_by(table, name, move, edges):
     made = tuple(name)
     for axis, many, word in zip(AXES, move, edges):
         if many != 0:
-            made, is_edge = stepped(table, made, _direction_of(axis, many))
+            made, is_edge = stepped(table, made, direction_of(axis, many))
             if is_edge and word == "stop":
                 return None
     return made
 
 
-def _direction_of(axis, many):
+def direction_of(axis, many):
     """The direction of one step along an axis, forward if the number is 1."""
     if many == 1:
         return FORWARD[AXES.index(axis)]
