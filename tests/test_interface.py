@@ -32,13 +32,20 @@ EXAMPLES = """
 >>> rule = Rule.whole(gauge)
 >>> rule((0, 0), 2)
 [(2,), (3,), (0,), (1,), (2,), (3,)]
+>>> from movecells.missing import fewest_signs, misses_nothing
+>>> [misses_nothing(rule), fewest_signs(rule.with_edges(("stop", "stop")))]
+[True, 2]
+>>> from movecells.alike import once_from
+>>> from movecells.bounds import far_bound
+>>> [once_from(rule), str(far_bound(rule))]
+[2, '8']
 """
 
 
 class TestInterface(unittest.TestCase):
     def test_examples(self):
         examples = doctest.DocTestParser().get_doctest(EXAMPLES, {}, "interface", None, 0)
-        self.assertEqual(len(examples.examples), 21)
+        self.assertEqual(len(examples.examples), 26)
         told = []
         doctest.DocTestRunner().run(examples, out=told.append)
         self.assertEqual("".join(told), "")
