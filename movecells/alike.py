@@ -200,19 +200,20 @@ def _sign_with(rule, key):
 def _shortest_fault(table, other):
     """A direction and a shortest name at which steps by two tables of one plan tell unlike things, or None."""
     readers = (Reader(table), Reader(other))
-    names = {}
+    found = []
     for direction in DIRECTIONS:
         begins = (table.begin(direction), other.begin(direction))
-        names[direction] = _shortest_unlike(table.plan, readers, begins)
-    found = [(direction, names[direction]) for direction in names if names[direction] is not None]
+        name = _shortest_unlike(table.plan, readers, begins)
+        if name is not None:
+            found.append((direction, name))
     return min(found, key=lambda row: len(row[1]), default=None)
 
 
 def _shortest_unlike(plan, readers, begins):
     """A shortest name from which two steps that begin in two states tell unlike things, or None."""
     graphs = [StepsGraph(plan, readers, phase, begins) for phase in range(len(plan))]
-    names = [shortest_name(graph, come_to(graph)) for graph in graphs]
-    return min([name for name in names if name is not None], key=len, default=None)
+    found = [shortest_name(graph, come_to(graph)) for graph in graphs]
+    return min([name for name in found if name is not None], key=len, default=None)
 
 
 def _states_told(table):

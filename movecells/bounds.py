@@ -64,7 +64,7 @@ def most_in_vain(rule):
     """The most cells that are asked in vain; None unless the rule is straight and of the kind "box"."""
     if not is_straight(rule) or rule.gauge.kind != "box":
         return None
-    return max([_in_vain_at(rule, phase) for phase in rule.gauge.taken()], default=0)
+    return max([_in_vain_at(rule, phase) for phase in rule.gauge.taken()])
 
 
 def least_lists(gauge):

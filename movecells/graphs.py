@@ -121,8 +121,9 @@ def has_form(rule, target, value):
     phase, east, north, alive = value
     if not is_count_below(phase, len(rule.table.plan)) or not is_move((east, north)):
         return False
-    if not isinstance(alive, tuple) or not all([_is_stand(rule.table, target[2], one) for one in alive]):
+    if not isinstance(alive, tuple) or not all([_is_stand(rule.table, one) for one in alive]):
         return False
+    # Just moves of the list, sorted, each once.
     return [move for move, _ in alive] == _moves_of(target, alive)
 
 
@@ -139,12 +140,12 @@ def _moves_of(target, alive):
     return [move for move in target[2] if move in there]
 
 
-def _is_stand(table, moves, value):
-    """Whether a value is a tuple of one of the moves and its stands."""
+def _is_stand(table, value):
+    """Whether a value is a tuple of a move and its stands."""
     if not is_tuple_of(value, 2):
         return False
     move, stands = value
-    if not is_move(move) or move not in moves:
+    if not is_move(move):
         return False
     if not is_tuple_of(stands, len([many for many in move if many != 0])):
         return False

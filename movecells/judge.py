@@ -9,10 +9,8 @@ from movecells.alike import (
     is_twice_paper,
     parting,
     rules_alike,
-    tables_alike,
     twice,
 )
-from movecells.checks import is_tuple_of
 from movecells.errors import InvalidClaim
 from movecells.missing import closed_lists, is_closed_paper, is_miss, misses_nothing, missing
 from movecells.rules import Rule
@@ -27,7 +25,7 @@ UNLIKE = "unlike"
 TWICE = "twice"
 ONCE = "once"
 # The claims of which None is the paper.
-WITHOUT_PAPER = (RIGHT, ALIKE, ONCE)
+WITHOUT_PAPER = ("right", "alike", "once")
 
 
 def is_claim(value):

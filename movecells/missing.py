@@ -20,26 +20,26 @@ def closed_lists(rule):
     """A closed list for each target, or None if the rule misses something."""
     graphs = _graphs(rule)
     found = _all_states(graphs)
-    if len(_names(graphs, found)) > 0:
+    if len(_names_of(graphs, found)) > 0:
         return None
     return {target: list(found[target]) for target in found}
 
 
 def missing(rule):
     """A place, one that is missed for it, and the distance, at the least fineness; None if nothing is missed."""
-    names = _shown(rule)
-    if len(names) == 0:
+    shown = _shown(rule)
+    if len(shown) == 0:
         return None
-    phase, shift, moves = min(list(names), key=lambda target: len(names[target]))
-    name = names[(phase, shift, moves)]
+    phase, shift, moves = min(list(shown), key=lambda target: len(shown[target]))
+    name = shown[(phase, shift, moves)]
     signs = [sign for sign in lists_at(rule, phase)[moves] if shift in rule.gauge.reached(phase, sign)]
     return near_places(rule.gauge, name, signs[0], shift)
 
 
 def fewest_signs(rule):
     """The least length of a miss, or None."""
-    names = _shown(rule)
-    return min([len(names[target]) for target in names], default=None)
+    shown = _shown(rule)
+    return min([len(shown[target]) for target in shown], default=None)
 
 
 def is_closed_paper(rule, value):
@@ -87,16 +87,16 @@ def _all_states(graphs):
     return {target: come_to(graphs[target], MOST_STATES) for target in graphs}
 
 
-def _names(graphs, found):
+def _names_of(graphs, found):
     """The shortest names that lead to a bad end, for the targets that have one."""
-    names = {target: shortest_name(graphs[target], found[target]) for target in graphs}
-    return {target: names[target] for target in names if names[target] is not None}
+    shown = {target: shortest_name(graphs[target], found[target]) for target in graphs}
+    return {target: shown[target] for target in shown if shown[target] is not None}
 
 
 def _shown(rule):
     """The shortest names that show what the rule misses, by the sorted targets."""
     graphs = _graphs(rule)
-    return _names(graphs, _all_states(graphs))
+    return _names_of(graphs, _all_states(graphs))
 
 
 def _is_closed_list(rule, graph, target, value):

@@ -13,8 +13,8 @@ class Reader:
 
     def first_stands(self, move):
         """The states in which the directions of the steps of a move begin."""
-        steps = [(axis, many) for axis, many in zip(AXES, move) if many != 0]
-        return tuple([self._table.begin(direction_of(axis, many)) for axis, many in steps])
+        directions = [direction_of(axis, many) for axis, many in zip(AXES, move) if many != 0]
+        return tuple([self._table.begin(direction) for direction in directions])
 
     def all_alive(self, moves):
         """The moves with their first stands."""

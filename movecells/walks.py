@@ -10,6 +10,45 @@ from movecells.errors import TooMany
 MOST_STATES = 1000
 
 
+class Ways:
+    """From which states of a graph some goal is just so many signs off.
+
+    Sets of states are kept as INTEGERS with a bit for each state: there can be very many states, and as many sets.
+    """
+
+    def __init__(self, graph, most):
+        states = list(come_to(graph))
+        self._leads = {state: _leads(graph, state) for state in states}
+        self._bits = {state: 1 << at for at, state in enumerate(states)}
+        self._layers = []
+        again = {}
+        layer = sum([self._bits[state] for state in states if graph.is_goal(state)])
+        ahead = {state: sum([self._bits[other] for other in self._leads[state]]) for state in states}
+        # What comes once more is followed by the same as before.
+        while layer not in again and len(self._layers) <= most:
+            again[layer] = len(self._layers)
+            self._layers.append(layer)
+            layer = sum([self._bits[state] for state in states if ahead[state] & layer != 0])
+        self._back = again.get(layer, 0)
+
+    def is_off(self, state, many):
+        """Whether from a state some goal is just so many signs off."""
+        at = many
+        if at >= len(self._layers):
+            at = self._back + (many - self._back) % (len(self._layers) - self._back)
+        return self._layers[at] & self._bits[state] != 0
+
+    def name_from(self, state, many):
+        """The name of a walk from a state to a goal that is just so many signs off."""
+        signs = []
+        now = state
+        for left in reversed(range(many)):
+            others = [other for other in self._leads[now] if self.is_off(other, left)]
+            signs.append(self._leads[now][others[0]])
+            now = others[0]
+        return tuple(signs[::-1])
+
+
 def come_to(graph, most=None):
     """All states that are come to, in this sequence, each with the state and the sign before it; None for the first."""
     found = {graph.first(): None}
@@ -38,13 +77,11 @@ def shortest_name(graph, found):
 
 def name_within(graph, least, most):
     """The name of a shortest walk to a goal that has at least and at most so many signs, or None."""
-    layers = [{graph.first(): None}]
-    leads = {}
-    for many in range(most + 1):
-        goals = [state for state in layers[many] if many >= least and graph.is_goal(state)]
-        if len(goals) > 0:
-            return _name_through(layers, goals[0])
-        layers.append(_layer_behind(graph, layers[many], leads))
+    ways = Ways(graph, most)
+    first = graph.first()
+    for many in range(least, most + 1):
+        if ways.is_off(first, many):
+            return ways.name_from(first, many)
     return None
 
 
@@ -81,27 +118,6 @@ def _name_to(found, state):
         signs.append(sign)
         step = found[before]
     return tuple(signs)
-
-
-def _name_through(layers, state):
-    """The signs from a state of the last layer back to the first one."""
-    signs = []
-    now = state
-    for layer in layers[:0:-1]:
-        now, sign = layer[now]
-        signs.append(sign)
-    return tuple(signs)
-
-
-def _layer_behind(graph, layer, leads):
-    """The states one sign behind those of a layer, each with a state and a sign before it."""
-    found = {}
-    for state in layer:
-        if state not in leads:
-            leads[state] = _leads(graph, state)
-        for other in leads[state]:
-            found[other] = (state, leads[state][other])
-    return found
 
 
 def _leads(graph, state):

@@ -6,7 +6,6 @@ import random
 from fractions import Fraction
 
 from movecells.gauges import Gauge
-from movecells.plans import Plan
 from movecells.rules import Rule
 from movecells.tables import Table
 from tests import models, search_models
@@ -204,20 +203,6 @@ def all_states(rule, target, most=10 ** 9):
     return rows
 
 
-def neighbour_pair(area, name, move):
-    """The number pair of the neighbour, or None."""
-    goal = []
-    sorts = zip(("east", "north"), models.pair_of(area.plan, name), move, models.counts(area.plan, len(name)))
-    for axis, number, many, count in sorts:
-        number += many
-        if axis in area.closed:
-            number %= count
-        elif not 0 <= number < count:
-            return None
-        goal.append(number)
-    return tuple(goal)
-
-
 def moved(rule, name, move):
     """The name that a move of the rule makes, or None."""
     return search_models.moved(entries_of(rule.table), rule.table.begins(), name, move, rule.edges)
@@ -231,7 +216,7 @@ def made_names(rule, name, moves):
 
 def is_missed(rule, name, moves, shift):
     """Whether there is a neighbour, and no move of the list makes it."""
-    goal = neighbour_pair(rule.gauge.area, name, shift)
+    goal = models.neighbour_pair(rule.gauge.area, name, shift)
     if goal is None:
         return False
     plan = rule.gauge.area.plan

@@ -194,8 +194,8 @@ def way(area, kind, place, name):
     return worth, all(had for one, had in both if one == worth)
 
 
-def neighbour(area, name, move):
-    """The neighbour by number pairs, or None."""
+def neighbour_pair(area, name, move):
+    """The number pair of the neighbour, or None."""
     goal = []
     for axis, number, many, count in zip(("east", "north"), pair_of(area.plan, name), move, counts(area.plan, len(name))):
         number += many
@@ -204,8 +204,16 @@ def neighbour(area, name, move):
         elif not 0 <= number < count:
             return None
         goal.append(number)
+    return tuple(goal)
+
+
+def neighbour(area, name, move):
+    """The neighbour by number pairs, or None."""
+    goal = neighbour_pair(area, name, move)
+    if goal is None:
+        return None
     for other in all_names(area.plan, len(name)):
-        if pair_of(area.plan, other) == tuple(goal):
+        if pair_of(area.plan, other) == goal:
             return other
     raise AssertionError("no name has the pair")
 

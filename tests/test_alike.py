@@ -20,7 +20,7 @@ from tests import graph_models, models, search_models
 from tests.graph_models import EDGES, STAY, sample_rules, some_rules, spoiled, table_with_states, written_otherwise
 from tests.models import MOVES, fraction, ratio
 from tests.search_models import DIRECTIONS, odd_table
-from tests.support import Alike, Checks, Row, no_counts, no_counts_below, no_integers, not_of, odd_values
+from tests.support import Alike, Checks, Row, no_counts, no_counts_below, not_of, odd_values
 from tests.test_gaps import wrong_distances
 from tests.test_graphs import FEW, GAUGE, SQUARES, WHOLE, WIDE
 from tests.test_places import wrong_places
@@ -166,9 +166,23 @@ class TestTwice(Checks, unittest.TestCase):
 
     def test_rules_that_always_ask_twice(self):
         gauge = Gauge(Map(MIXED, 8, 8), 1, 1, "sum")
-        rule = Rule(gauge, same(MIXED), [STAY], looks={(1, 5): [STAY, (0, -1)]})
-        for f, fineness in ((1, 1), (2, 3), (3, 3), (499, 499), (500, 501)):
-            self.assertEqual(self.is_twice(rule, twice(rule, f)), fineness)
+        for move in ((0, -1), (0, 1)):
+            rule = Rule(gauge, same(MIXED), [STAY], looks={(1, 5): [STAY, move], (1, 7): [move, STAY]})
+            for f, fineness in ((1, 1), (2, 3), (3, 3), (499, 499), (500, 501)):
+                self.assertEqual(self.is_twice(rule, twice(rule, f)), fineness)
+
+    def test_very_many_states(self):
+        """Steps that exchange nothing, but go through all states, each in its own way."""
+        rnd = random.Random(12)
+        states = [[[(sign, rnd.choice((None, *range(8)))) for sign in range(4)]] for _ in range(8)]
+        for edges in EDGES:
+            rule = Rule(GAUGE, Table(SQUARES, states), MOVES, edges=edges)
+            told = [asks_twice(rule, f) for f in range(1, 5)]
+            self.assertEqual(told, [graph_models.twice_at(rule, f) for f in range(1, 5)])
+            self.assertIs(once_from(rule), None)
+            for f in (999, 1000):
+                self.assertIs(asks_twice(rule, f), True)
+            self.assertGreaterEqual(self.is_twice(rule, twice(rule, 500)), 500)
 
     def test_wrong_numbers(self):
         self.fails_for_each(InvalidNumber, no_counts() + [0, 501, 1000, 1001, 10 ** 50], twice, {"rule": WHOLE, "f": 1}, "f")

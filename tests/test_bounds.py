@@ -80,7 +80,7 @@ def in_vain_at(rule, f):
     found = []
     for place in itertools.product(*numbers):
         name = models.name_at(gauge.area, place, f)
-        pairs = {graph_models.neighbour_pair(gauge.area, name, move) for move in rule.base_moves()} - {None}
+        pairs = {models.neighbour_pair(gauge.area, name, move) for move in rule.base_moves()} - {None}
         asked = [other for other in names_with(gauge.area.plan, f, pairs)]
         found.append(len([other for other in asked if not is_near(gauge, place, other, d)]))
     return max(found)

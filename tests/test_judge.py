@@ -64,7 +64,9 @@ def wrong_claims():
     for word in ("twice", "once"):
         found = found + [(word, value, 1) for value in not_of(Rule) + [TABLE]] + [(word, WHOLE), (word, WHOLE, 1, 1), (word, 1, WHOLE)]
         found = found + [(word, WHOLE, value) for value in no_integers() + [0, -1, 501, 1000, 10 ** 50, Alike()]]
-    return found + [(value, WHOLE) for value in odd_values()] + [(Alike(), WHOLE), ("", WHOLE), ("miss", WHOLE)]
+    return found + [(value, WHOLE) for value in odd_values()] + [(Alike(), WHOLE), ("", WHOLE), ("miss", WHOLE)] + [
+        (word, WHOLE, other) for word in ("thrice", "Twice", "", "misses", "right", "east") for other in (1, WHOLE)
+    ]
 
 
 class TestIsClaim(Checks, unittest.TestCase):

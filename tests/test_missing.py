@@ -2,7 +2,6 @@
 
 import itertools
 import unittest
-from fractions import Fraction
 
 from movecells import missing as file
 from movecells.errors import InvalidRule, TooMany
@@ -182,6 +181,19 @@ class TestRules(MissingCase):
         looks = {(0, sign): [STAY] for sign in (5, 6, 9, 10)}
         for few, told in ((gauge, True), (gauge.with_reaches(Ratio(26, 100), Ratio(26, 100)), False)):
             self.assertIs(misses_nothing(Rule(few, Table.right(plan), MOVES, edges=("stop", "stop"), looks=looks)), told)
+
+
+    def test_next_signs_with_looks_of_their_own(self):
+        """What is missed is missed only by places with the one next sign, though the cells have many."""
+        for plan in (Plan.squares(4), Plan.codes(), Plan([("east", 2), ("east", 4)], [("north", 4), ("north", 2)])):
+            gauge = Gauge(Map(plan, 8, 5, closed=["north"]), 1, Ratio(9, 10), "sum")
+            for phase in gauge.taken():
+                for sign in range(plan.signs(phase)):
+                    rule = Rule.whole(gauge).with_look(phase, sign, [STAY])
+                    place, other, d = missing(rule)
+                    self.assertEqual(fewest_signs(rule), self.is_shown(rule, (place, other, d)))
+                    name = models.name_at(gauge.area, place, gauge(d) + 1)
+                    self.assertEqual((gauge(d) % len(plan), name[-1]), (phase, sign))
 
 
 class TestIsMiss(MissingCase):

@@ -12,7 +12,7 @@ from movecells.ratios import Ratio
 from movecells.rules import Rule
 from movecells.tables import Table
 from movecells.texts import map_text, plan_text, read_map, read_plan, read_rule, read_table, rule_text, table_text
-from tests import graph_models, models, text_models
+from tests import models, text_models
 from tests.graph_models import STAY, sample_rules, some_rules, written_otherwise
 from tests.support import Alike, Checks, Word, not_of, odd_values
 from tests.test_graphs import GAUGE, SQUARES, WHOLE
